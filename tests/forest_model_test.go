@@ -299,11 +299,18 @@ func (p *plainForest) value(tree int, key string) (string, bool) {
 	return "", false
 }
 
+func (p *plainForest) free() int64 {
+	return int64(len(plainFree(p.counts(), p.com)))
+}
+
+func (p *plainForest) reserve() int64 {
+	return int64(len(p.com)+17) / 20 * 2
+}
+
 // whole undoes a change that was refused or left too few free blocks.
 func (p *plainForest) whole(change func() bool) int64 {
 	before := p.copied()
-	blocks := int64(len(p.com))
-	if change() && int64(len(plainFree(p.counts(), p.com))) >= (blocks+17)/20*2 {
+	if change() && p.free() >= p.reserve() {
 		return impl.OK
 	}
 	*p = *before
