@@ -12,7 +12,7 @@ import (
 // wantItems runs lines that must all be made on a fresh volume, each leaving a file tree. Items are told as keys and values in turns, in rising order.
 func wantItems(t *testing.T, lines []string, want ...string) {
 	t.Helper()
-	v := &runningVolume{freshForest(512)}
+	v := &runningVolume{forest: freshForest(512)}
 	verbs := v.verbs()
 	for _, line := range lines {
 		if got := v.answer(verbs, line); got.Code != OK {
@@ -110,7 +110,7 @@ func TestPiecesAreNoLongerThanWritten(t *testing.T) {
 }
 
 func TestNumbersOfTwoBytes(t *testing.T) {
-	v := &runningVolume{freshForest(512)}
+	v := &runningVolume{forest: freshForest(512)}
 	verbs := v.verbs()
 	for ino := 2; ino <= 260; ino++ {
 		if got := v.answer(verbs, "mkdir 0 /"+strconv.Itoa(ino)); got.Code != OK {
@@ -138,7 +138,7 @@ func TestNumbersOfTwoBytes(t *testing.T) {
 
 // A line that finds no room in its midst leaves the very same forest.
 func TestLineWithoutRoomLeavesTheForest(t *testing.T) {
-	v := &runningVolume{freshForest(24)}
+	v := &runningVolume{forest: freshForest(24)}
 	verbs := v.verbs()
 	for _, line := range []string{"create 0 /f", "fill 0 /f 0 130 a", "mkdir 0 /d"} {
 		if got := v.answer(verbs, line); got.Code != OK {
@@ -154,6 +154,42 @@ func TestLineWithoutRoomLeavesTheForest(t *testing.T) {
 		}
 		if !sameForest(v.forest, &before) || !slices.Equal(fileTree{v.forest, 0}.items(), items) {
 			t.Errorf("%q changed the forest", line)
+		}
+	}
+}
+
+// No lines lead to a disk that can't be mounted, as a sync leaves the last commit's blocks alone: so the disk is blank here behind the volume's back.
+func TestVolumeThatCannotBeMountedAnew(t *testing.T) {
+	for _, crash := range []string{"crash 0 -", "crash 1 1", "crash 999 -"} {
+		v := &runningVolume{forest: freshForest(8), device: deviceOf(make([]byte, 8*BlockSize))}
+		verbs := v.verbs()
+		for _, line := range []string{crash, "space", crash, "sync", "list 0 /", "nonsense", strings.Repeat("x", MaxLine+1)} {
+			if got := v.answer(verbs, line); got != (Answer{Code: ErrCorrupt}) {
+				t.Errorf("%q, %q answers %+v", crash, line, got)
+			}
+		}
+	}
+}
+
+// Behind a sync the volume goes on with the very forest that Mount would find, and nothing waits in the cache.
+func TestSyncedForestIsTheMountedOne(t *testing.T) {
+	v := &runningVolume{device: Device{Blocks: 64, Disk: make([]byte, 64*BlockSize)}}
+	v.device.Disk, _ = Mkfs(v.device.Disk)
+	v.mount()
+	verbs := v.verbs()
+	lines := []string{"create 0 /a", "clone 0", "fill 0 /a 0 120 x", "clone 1", "mkdir 2 /d", "unlink 1 /a", "drop 0", "create 1 /b", "rename 2 /a /d/a", "crash 2 11", "drop 1", "fill 2 /d/a 60 9 y"}
+	for i, line := range append(lines, lines...) {
+		if v.answer(verbs, line); i%2 == 1 {
+			v.answer(verbs, "sync")
+			found, code := mountForest(v.device.Disk)
+			if code != OK || !sameForest(found, v.forest) || len(v.device.Cache) != 0 {
+				t.Fatalf("line %d, %q: code %d, or another forest", i, line, code)
+			}
+			for block, n := range v.nodes {
+				if other := found.nodes[block]; other == nil || other.Kind != n.Kind || !slices.Equal(other.Entries, n.Entries) {
+					t.Errorf("line %d, %q: block %d has the node %v, on the disk %v", i, line, block, n, other)
+				}
+			}
 		}
 	}
 }

@@ -143,6 +143,22 @@ func plainFileOf(vals map[string]string, ino int64) *plainFile {
 	return f
 }
 
+// walk tells the files as a walk meets them: of two paths the one comes first that has the lesser name where they part.
+func (t plainTree) walk() []impl.File {
+	out := []impl.File{}
+	for path, f := range t {
+		kind := int64(impl.FileKind)
+		if f.dir {
+			kind = impl.DirKind
+		}
+		out = append(out, impl.File{Path: path, Kind: kind, Size: int64(len(f.bytes)), Data: string(f.bytes)})
+	}
+	slices.SortFunc(out, func(a, b impl.File) int {
+		return slices.Compare(strings.Split(a.Path, "/"), strings.Split(b.Path, "/"))
+	})
+	return out
+}
+
 // plainPath is SplitPath's code by a look at one byte after the other.
 func plainPath(path string) int64 {
 	if len(path) > 200 {
@@ -184,43 +200,130 @@ func refusal(code int64) effect {
 	return effect{answer: impl.Answer{Code: code}}
 }
 
-// plainScript answers the lines of a script by plain maps. The slow forest below tells just when room is wanting, and the space.
+// plainTrees has one plain map a clone.
+type plainTrees map[int64]plainTree
+
+// copied is enough as it is: a file of a plain map is replaced, never changed.
+func (t plainTrees) copied() plainTrees {
+	out := plainTrees{}
+	for tree, files := range t {
+		out[tree] = maps.Clone(files)
+	}
+	return out
+}
+
+// itemCount is what U and C of promise 13 are made of.
+func (t plainTrees) itemCount() int64 {
+	sum := int64(0)
+	for _, files := range t {
+		sum += max(1, int64(len(files.items())))
+	}
+	return sum
+}
+
+// plainScript answers the lines of a script by plain maps. The slow forest below tells just when room is wanting, the space, and what a commit writes.
 type plainScript struct {
 	forest *plainForest
-	trees  map[int64]plainTree
-	// items of the last commit, and the line's number of puts: what the bounds of promises 13 and 19 speak of.
-	committed int64
-	linePuts  int64
-	// dips counts the lines that were made although the reserve was missed in their midst.
-	dips int
+	trees  plainTrees
+	// saved are the maps of the last commit, disk is what it left.
+	saved plainTrees
+	disk  []byte
+	// linePuts is the number of the line's own puts, of which promises 13 and 19 speak.
+	linePuts int64
+	// dips counts the lines that were made although the reserve was missed in their midst; begun and landed the crashes that lost a sync and those that did not.
+	dips, begun, landed int
 }
 
 func newPlainScript(disk []byte) *plainScript {
-	s := &plainScript{forest: plainMount(disk).forest(), trees: map[int64]plainTree{}}
+	s := &plainScript{forest: plainMount(disk).forest(), trees: plainTrees{}, disk: disk}
 	for _, r := range s.forest.roots {
 		s.trees[r.Tree] = plainTreeOf(s.forest.items(r.Block))
 	}
-	s.committed = s.itemCount()
+	s.saved = s.trees.copied()
 	return s
-}
-
-func (s *plainScript) itemCount() int64 {
-	sum := int64(0)
-	for _, t := range s.trees {
-		sum += max(1, int64(len(t.items())))
-	}
-	return sum
 }
 
 // mayLackSpace is the bound of the promises.
 func (s *plainScript) mayLackSpace() bool {
 	blocks := int64(len(s.forest.com))
-	return 4+s.itemCount()+s.linePuts+s.committed+3*((blocks+17)/20) > blocks
+	return 4+s.trees.itemCount()+s.linePuts+s.saved.itemCount()+3*((blocks+17)/20) > blocks
 }
 
 func (s *plainScript) answer(c impl.Command) impl.Answer {
-	e := s.effect(c)
 	s.linePuts = 0
+	switch c.Op {
+	case impl.CmdClone, impl.CmdDrop:
+		return s.cloneOrDrop(c)
+	case impl.CmdSync:
+		return s.sync()
+	case impl.CmdCrash:
+		return s.crash(c)
+	}
+	return s.answerInTree(c)
+}
+
+func (s *plainScript) cloneOrDrop(c impl.Command) impl.Answer {
+	op := clone(c.Tree)
+	if c.Op == impl.CmdDrop {
+		op = drop(c.Tree)
+	}
+	made := s.forest.do(op)
+	switch {
+	case made.Code != impl.OK:
+	case c.Op == impl.CmdDrop:
+		delete(s.trees, c.Tree)
+	default:
+		s.trees[made.Value] = maps.Clone(s.trees[c.Tree])
+	}
+	return impl.Answer{Code: made.Code, Value: made.Value}
+}
+
+// carriedOut is the disk after steps and a crash behind them.
+func carriedOut(disk []byte, steps []impl.Step, survives func(i int) bool) []byte {
+	p := plainOf(impl.Device{Blocks: blocksIn(disk), Disk: disk})
+	for _, step := range steps {
+		if step.Kind == impl.StepFlush {
+			p.settle(func(int) bool { return true })
+		} else {
+			p.write(step.Block, step.Data)
+		}
+	}
+	p.settle(survives)
+	return slices.Concat(p.disk...)
+}
+
+func (s *plainScript) sync() impl.Answer {
+	steps := s.forest.commitSteps()
+	if made := s.forest.do(commit()); made.Code != impl.OK {
+		return impl.Answer{Code: made.Code}
+	}
+	s.disk = carriedOut(s.disk, steps, nil)
+	s.saved = s.trees.copied()
+	return impl.Answer{Value: s.forest.generation}
+}
+
+// crash knows of an own volume without a look at the disk which generation is found: the superblock is the last write, alone in the cache behind a flush.
+func (s *plainScript) crash(c impl.Command) impl.Answer {
+	survives := func(i int) bool { return i < len(c.Data) && c.Data[i] == '1' }
+	steps := s.forest.commitSteps()
+	count := min(int(c.Off), len(steps))
+	s.disk = carriedOut(s.disk, steps[:count], survives)
+	found := s.forest.generation
+	if len(steps) > 0 && (count == len(steps) || count == len(steps)-1 && survives(0)) {
+		found++
+		s.landed++
+		s.saved = s.trees.copied()
+	} else {
+		s.begun++
+		s.trees = s.saved.copied()
+	}
+	s.forest = plainMount(s.disk).forest()
+	return impl.Answer{Value: found}
+}
+
+// answerInTree is for the lines that look at one tree, or change it.
+func (s *plainScript) answerInTree(c impl.Command) impl.Answer {
+	e := s.effect(c)
 	for _, op := range e.ops {
 		if op.Kind == impl.OpPut {
 			s.linePuts++

@@ -2,6 +2,7 @@ package tests
 
 import (
 	"bytes"
+	"cmp"
 	"maps"
 	"math/rand"
 	"slices"
@@ -24,7 +25,11 @@ func textOf(c impl.Command) string {
 		impl.CmdList:   {"list", tree, c.Path},
 		impl.CmdUnlink: {"unlink", tree, c.Path},
 		impl.CmdRename: {"rename", tree, c.Path, c.Path2},
+		impl.CmdClone:  {"clone", tree},
+		impl.CmdDrop:   {"drop", tree},
+		impl.CmdSync:   {"sync"},
 		impl.CmdSpace:  {"space"},
+		impl.CmdCrash:  {"crash", off, cmp.Or(c.Data, "-")},
 	}
 	return strings.Join(words[c.Op], " ")
 }
@@ -33,6 +38,7 @@ func textOf(c impl.Command) string {
 type temper struct {
 	what                                                          string
 	create, mkdir, write, fill, read, list, unlink, rename, space int
+	clone, drop, sync, crash                                      int
 	longest                                                       int64
 	names                                                         string
 }
@@ -41,6 +47,7 @@ func (m temper) op(r *rand.Rand) int64 {
 	weights := map[int64]int{
 		impl.CmdCreate: m.create, impl.CmdMkdir: m.mkdir, impl.CmdWrite: m.write, impl.CmdFill: m.fill, impl.CmdRead: m.read,
 		impl.CmdList: m.list, impl.CmdUnlink: m.unlink, impl.CmdRename: m.rename, impl.CmdSpace: m.space,
+		impl.CmdClone: m.clone, impl.CmdDrop: m.drop, impl.CmdSync: m.sync, impl.CmdCrash: m.crash,
 	}
 	var bag []int64
 	for _, op := range slices.Sorted(maps.Keys(weights)) {
@@ -124,10 +131,34 @@ func (w *scribe) number(most int64) int64 {
 	return max(0, n)
 }
 
+// crash likes the last steps of a sync, where its outcome hangs on one write.
+func (w *scribe) crash() impl.Command {
+	c := impl.Command{Op: impl.CmdCrash}
+	for range w.r.Intn(20) {
+		c.Data += string(rune('0' + w.r.Intn(2)))
+	}
+	c.Len = int64(len(c.Data))
+	steps := len(w.s.forest.commitSteps())
+	switch w.r.Intn(3) {
+	case 0:
+		c.Off = w.r.Int63n(int64(steps) + 3)
+	case 1:
+		c.Off = int64(max(0, steps-w.r.Intn(3)))
+	case 2:
+		c.Off = []int64{0, 1, 999999}[w.r.Intn(3)]
+	}
+	return c
+}
+
 func (w *scribe) command() impl.Command {
 	op := w.op(w.r)
-	if op == impl.CmdSpace {
+	switch op {
+	case impl.CmdSpace, impl.CmdSync:
 		return impl.Command{Op: op}
+	case impl.CmdClone, impl.CmdDrop:
+		return impl.Command{Op: op, Tree: w.someTree()}
+	case impl.CmdCrash:
+		return w.crash()
 	}
 	tree := w.someTree()
 	c := impl.Command{Op: op, Tree: tree, Path: w.path(tree, op)}
@@ -154,12 +185,11 @@ func (w *scribe) command() impl.Command {
 	return c
 }
 
-// wantWritten lets a scribe write a script as long as one may be, or of so many lines, and holds the answers against the plain maps. It gives the codes that came.
-func wantWritten(t *testing.T, what string, disk []byte, w *scribe, most int) map[int64]int {
+// written lets a scribe write a script as long as one may be, or of so many lines. On the way it looks at the promises that speak of refusals.
+func (w *scribe) written(t *testing.T, what string, most int) []told {
 	t.Helper()
 	var lines []told
 	size := 0
-	codes := map[int64]int{}
 	for len(lines) < most {
 		c := w.command()
 		size += len(textOf(c)) + 1
@@ -170,16 +200,31 @@ func wantWritten(t *testing.T, what string, disk []byte, w *scribe, most int) ma
 		if answer.Code == impl.ErrNoSpace && !w.s.mayLackSpace() {
 			t.Errorf("%s: line %d, %q, wants for space though the promise holds", what, len(lines), textOf(c))
 		}
+		if c.Op == impl.CmdSync && answer.Code != impl.OK {
+			t.Errorf("%s: line %d, a sync, is refused with code %d", what, len(lines), answer.Code)
+		}
 		lines = append(lines, told{textOf(c), answer})
-		codes[answer.Code]++
 	}
-	wantTold(t, disk, lines...)
+	return lines
+}
+
+// wantWritten holds the answers to a written script against the plain maps, and the disk that it leaves against the one that the slow forest's steps leave. It counts the codes that came.
+func wantWritten(t *testing.T, what string, disk []byte, w *scribe, most int, codes map[int64]int) []byte {
+	t.Helper()
+	lines := w.written(t, what, most)
+	for _, l := range lines {
+		codes[l.want.Code]++
+	}
+	left := toldDisk(t, disk, lines...)
+	if !bytes.Equal(left, w.s.disk) {
+		t.Errorf("%s: another disk is left", what)
+	}
 	for _, root := range w.s.forest.roots {
 		if !slices.Equal(w.s.forest.items(root.Block), w.s.trees[root.Tree].items()) {
 			t.Errorf("%s: the plain maps and the plain forest of tree %d differ", what, root.Tree)
 		}
 	}
-	return codes
+	return left
 }
 
 func tempers() []temper {
@@ -200,10 +245,7 @@ func TestScriptsAgainstPlainMaps(t *testing.T) {
 		for _, m := range tempers() {
 			disk := fresh(t, blocks)
 			w := &scribe{r: r, s: newPlainScript(disk), temper: m}
-			got := wantWritten(t, m.what+" on "+strconv.FormatInt(blocks, 10)+" blocks", disk, w, 250)
-			for code, number := range got {
-				codes[code] += number
-			}
+			wantWritten(t, m.what+" on "+strconv.FormatInt(blocks, 10)+" blocks", disk, w, 250, codes)
 			dips += w.s.dips
 		}
 	}
@@ -221,7 +263,7 @@ func TestLongScripts(t *testing.T) {
 	r := rand.New(rand.NewSource(21))
 	for _, m := range tempers() {
 		disk := fresh(t, 512)
-		wantWritten(t, m.what, disk, &scribe{r: r, s: newPlainScript(disk), temper: m}, impl.MaxLines)
+		wantWritten(t, m.what, disk, &scribe{r: r, s: newPlainScript(disk), temper: m}, impl.MaxLines, map[int64]int{})
 	}
 }
 
@@ -234,7 +276,7 @@ func TestScriptsOnOtherVolumes(t *testing.T) {
 		disk := after(t, fresh(t, blocks), ops...)
 		for _, m := range tempers() {
 			w := &scribe{r: r, s: newPlainScript(disk), temper: m}
-			wantWritten(t, m.what+" on clones", disk, w, 150)
+			wantWritten(t, m.what+" on clones", disk, w, 150, map[int64]int{})
 		}
 	}
 }
@@ -309,7 +351,7 @@ func TestRoomForFiles(t *testing.T) {
 
 func TestNoCallWithLinesPanics(t *testing.T) {
 	r := rand.New(rand.NewSource(23))
-	words := []string{"create", "mkdir", "write", "fill", "read", "list", "unlink", "rename", "clone", "drop", "space", "0", "1", "999999", "/", "/a", "/a/b", "x", "-", "01", "", "\x00", "é", "\n", "\n"}
+	words := []string{"create", "mkdir", "write", "fill", "read", "list", "unlink", "rename", "clone", "drop", "sync", "space", "crash", "0", "1", "999999", "/", "/a", "/a/b", "x", "-", "01", "", "\x00", "é", "\n", "\n"}
 	disks := [][]byte{fresh(t, 8), fresh(t, 64), someFiles().volume(t, 2), nil, make([]byte, 1024)}
 	for range 3000 {
 		script := ""

@@ -35,8 +35,8 @@ func scriptOf(lines []told) string {
 	return out
 }
 
-// wantTold runs lines, and wants that the image stays: none of them commits.
-func wantTold(t *testing.T, disk []byte, lines ...told) {
+// toldDisk runs lines, wants their answers and gives the disk that they leave.
+func toldDisk(t *testing.T, disk []byte, lines ...told) []byte {
 	t.Helper()
 	out := impl.RunScript(disk, scriptOf(lines))
 	if out.Code != impl.OK || len(out.Answers) != len(lines) {
@@ -47,7 +47,13 @@ func wantTold(t *testing.T, disk []byte, lines ...told) {
 			t.Errorf("line %d, %q: %+v, want %+v", i, l.line, out.Answers[i], l.want)
 		}
 	}
-	if !bytes.Equal(out.Disk, disk) {
+	return out.Disk
+}
+
+// wantTold wants that the image stays: none of the lines commits.
+func wantTold(t *testing.T, disk []byte, lines ...told) {
+	t.Helper()
+	if !bytes.Equal(toldDisk(t, disk, lines...), disk) {
 		t.Errorf("the disk is another one without a commit")
 	}
 }
